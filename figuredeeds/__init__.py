@@ -1,0 +1,1 @@
+"""Figuredeeds: figures on a ground, with scripts of stacked deeds."""
