@@ -7,6 +7,8 @@ MOST_VALUE = 1000000
 LONGEST_NAME = 8
 DEEPEST = 6
 
+# A name's kind tells of what it is the name, so that a play's can be looked for there.
+NAME_KINDS = ("name", "list", "figure")
 # The kinds of the parts behind each word; a value is a look, too, but without a word.
 PARTS = {
     ("look", "name"): ("name",),
@@ -15,8 +17,8 @@ PARTS = {
     ("look", "by"): ("look", "look"),
     ("look", "over"): ("look", "look"),
     ("look", "rest"): ("look", "look"),
-    ("look", "item"): ("name", "look"),
-    ("look", "many"): ("name",),
+    ("look", "item"): ("list", "look"),
+    ("look", "many"): ("list",),
     ("look", "x"): (),
     ("look", "y"): (),
     ("look", "way"): (),
@@ -26,7 +28,7 @@ PARTS = {
     ("test", "not"): ("test",),
     ("test", "both"): ("test", "test"),
     ("test", "any"): ("test", "test"),
-    ("test", "meets"): ("name",),
+    ("test", "meets"): ("figure",),
 }
 SPOT_WORDS = ("x", "y", "way", "number")
 
@@ -57,8 +59,8 @@ def is_test(thing):
 
 
 def is_part(thing, kind, deep):
-    """Whether it is a name, look or test, as kind has it, a look or test at most so deep."""
-    if kind == "name":
+    """Whether it is a NAME, look or test, as kind has it, a look or test at most so deep."""
+    if kind in NAME_KINDS:
         return is_name(thing)
     if deep < 1:
         return False
@@ -67,14 +69,31 @@ def is_part(thing, kind, deep):
     return has_parts(thing, kind, deep)
 
 
+def is_worded(thing):
+    """Whether it is a tuple with a text first, by which its parts can be told."""
+    return isinstance(thing, tuple) and len(thing) > 0 and isinstance(thing[0], str)
+
+
 def has_parts(thing, kind, deep):
     """Whether it is a word of that kind with its parts, at most so deep."""
-    if not isinstance(thing, tuple) or len(thing) == 0 or not isinstance(thing[0], str):
+    if not is_worded(thing):
         return False
     kinds = PARTS.get((kind, thing[0]))
     if kinds is None or len(thing) != len(kinds) + 1:
         return False
     return all([is_part(part, wanted, deep - 1) for part, wanted in zip(thing[1:], kinds)])
+
+
+def names_in(part, kind):
+    """The pairs (kind, NAME) of all that a look or test names."""
+    if kind in NAME_KINDS:
+        return [(kind, part)]
+    if is_number(part):
+        return []
+    named = []
+    for inner, wanted in zip(part[1:], PARTS[kind, part[0]]):
+        named.extend(names_in(inner, wanted))
+    return named
 
 
 def plus(first, second):

@@ -74,6 +74,29 @@ class Language(unittest.TestCase):
         for node in [node for _, node in nodes((ast.FunctionDef, ast.arg))]:
             self.assertNotIn(node.name if isinstance(node, ast.FunctionDef) else node.arg, dir(builtins))
 
+    def test_no_local_name_is_that_of_an_import_or_class(self):
+        for file, tree in trees():
+            within = list(ast.walk(tree))
+            taken = {alias.name for node in within if isinstance(node, ast.ImportFrom) for alias in node.names}
+            taken |= {node.name for node in within if isinstance(node, ast.ClassDef)}
+            local = {node.arg for node in within if isinstance(node, ast.arg)}
+            local |= {node.id for node in within if isinstance(node, ast.Name) and isinstance(node.ctx, ast.Store)}
+            self.assertEqual(local & taken, set(), file)
+
+    def test_each_name_is_bound_once_at_module_level(self):
+        for file, tree in trees():
+            bound = [node.name for node in tree.body if isinstance(node, (ast.FunctionDef, ast.ClassDef))]
+            bound += [target.id for node in tree.body if isinstance(node, ast.Assign) for target in node.targets]
+            bound += [alias.name for node in tree.body if isinstance(node, ast.ImportFrom) for alias in node.names]
+            self.assertEqual(sorted(bound), sorted(set(bound)), file)
+
+    def test_each_attribute_that_is_read_is_assigned_or_a_method(self):
+        stored = {node.attr for _, node in nodes(ast.Attribute) if isinstance(node.ctx, ast.Store)}
+        known = stored | {node.name for _, node in nodes(ast.FunctionDef)}
+        builtin = {name for kind in (str, int, list, dict, tuple) for name in dir(kind)}
+        read = {node.attr for _, node in nodes(ast.Attribute)}
+        self.assertEqual(read - known - builtin, set())
+
     def test_no_name_is_a_method_and_an_attribute(self):
         methods = {part.name for _, node in nodes(ast.ClassDef) for part in node.body
                    if isinstance(part, ast.FunctionDef)}
