@@ -250,6 +250,12 @@ class HandedIn(unittest.TestCase):
             self.assertIs(shows_alike(STEPS, STILL, happenings, PAPER[:2]), False)
         self.assertIsNone(alike_paper(says_at(2), counter(), as_lists((UP,))))
 
+    def test_plays_of_lists_are_taken_too(self):
+        plays = (as_lists(STEPS), as_lists(STILL))
+        self.assertEqual(alike_paper(*plays, [UP, DOWN]), alike_paper(STEPS, STILL, [UP, DOWN]))
+        self.assertIs(shows_alike(*plays, [UP, DOWN], PAPER), True)
+        self.assertIs(shows_alike(*plays, [UP, DOWN], PAPER[:2]), False)
+
     def test_nothing_is_changed_and_told_lists_are_the_askers_own(self):
         happenings = [list(UP), list(DOWN)]
         paper = alike_paper(STEPS, STILL, happenings)

@@ -326,6 +326,13 @@ class HandedIn(unittest.TestCase):
         for happenings in ([TURN, UP], as_lists((TURN, UP))):
             self.assertEqual(parted(on_up(("wait", 1), ("say", 1)), STILL, happenings), [UP, TURN])
 
+    def test_plays_of_lists_are_taken_too(self):
+        plays = (as_lists(says_at(2)), as_lists(counter()))
+        self.assertEqual(parted(*plays, [UP]), [UP, UP])
+        self.assertIs(shows_parted(*plays, [UP], [UP, UP]), True)
+        self.assertIs(shows_parted(*plays, [UP], [UP]), False)
+        self.assertEqual(plays, (as_lists(says_at(2)), as_lists(counter())))
+
     def test_nothing_is_changed(self):
         happenings = [list(UP), ["turn"]]
         row = [UP, UP]
